@@ -1,0 +1,169 @@
+"""What the tests judge by, worked out apart from the program, by Python's own fractions."""
+
+from fractions import Fraction
+from itertools import product
+
+from onelate.course import Course
+from onelate.errors import Wrong
+
+ZERO, ONE, TWO, HALF = (0, 1), (1, 1), (2, 1), (1, 2)
+
+
+def deep(levels):
+    """A tuple so many levels deep."""
+    thing = ()
+    for _ in range(levels):
+        thing = (thing,)
+    return thing
+
+
+def odd_values():
+    """Values of many kinds, none of which is a fraction, a name, or made of tuples of fractions."""
+    course = Course((((ZERO, (ZERO,)),),), ((ZERO, ZERO),))
+    return [
+        None, True, False, "", " ", "a b\nc", "~", "A", "toolong", "a1", [], {}, [1, 2], [0, 1], [ZERO],
+        {0: ZERO}, {"a": (1, 2)}, -1, 10 ** 40 - 1, -(10 ** 40 - 1), deep(20), [deep(19)], {"a": [{}]},
+        (None,), (True, True), (1, True), (True, 1), (False, 1), (0, False), (0, 0), (1, 0), (1, -1),
+        (2, 4), (0, 2), (-2, 2), (1,), (1, 2, 3), ("1", "2"), ([1], [2]), ((1, 2), [3, 4]), (None, None),
+        course, Wrong, Wrong(0), (course, course), tuple([None] * 3000),
+    ]
+
+
+def number(fraction):
+    return Fraction(fraction[0], fraction[1])
+
+
+def as_tuple(value):
+    value = Fraction(value)
+    return (value.numerator, value.denominator)
+
+
+def numbers(fractions):
+    return [number(fraction) for fraction in fractions]
+
+
+def value_of(rule, values):
+    """The value of a rule by Fractions."""
+    return number(rule[0]) + sum(number(factor) * value for factor, value in zip(rule[1], values))
+
+
+def gone(book, start, aged_row):
+    """By the words of [2] and [7]: the values and stages that each turn works out, and all that there are."""
+    values = [[number(ahead), number(newest)] for newest, ahead in start]
+    stages = [[0, 0] for _ in book]
+    made = []
+    for cell, rule, ages in aged_row:
+        chosen = book[cell][rule]
+        value = value_of(chosen, [values[other][-1 - age] for other, age in enumerate(ages)])
+        told = [stages[other][-1 - ages[other]] for other in range(len(book)) if chosen[1][other][0] != 0]
+        told = [stage for stage in told if stage is not None]
+        stage = 1 + min(told) if told else None
+        made.append((as_tuple(value), stage))
+        values[cell].append(value)
+        stages[cell].append(stage)
+    return made, [[as_tuple(value) for value in row] for row in values], stages
+
+
+def sizes(book, choice):
+    """The sizes of the chosen rules' factors, as Fractions."""
+    return [[abs(number(factor)) for factor in cell[rule][1]] for cell, rule in zip(book, choice)]
+
+
+def determinant(rows):
+    if not rows:
+        return Fraction(1)
+    whole = Fraction(0)
+    for place, item in enumerate(rows[0]):
+        if item != 0:
+            rest = [row[:place] + row[place + 1:] for row in rows[1:]]
+            whole += (-1) ** place * item * determinant(rest)
+    return whole
+
+
+def shrinks(rows):
+    """Whether rows of numbers from 0 on have a spectral radius below 1: by the minors of 1 less rows."""
+    gaps = [[(1 if at == place else 0) - item for place, item in enumerate(row)] for at, row in enumerate(rows)]
+    return all(determinant([row[:many] for row in gaps[:many]]) > 0 for many in range(1, len(rows) + 1))
+
+
+def choices(book):
+    return list(product(*[range(len(cell)) for cell in book]))
+
+
+def has_weights(book):
+    """By [5]: whether no choice keeps sizes of distances up."""
+    return all(shrinks(sizes(book, choice)) for choice in choices(book))
+
+
+def leads(book, choice):
+    """For each cell the set of cells to which it leads by the choice, by going on until nothing is new."""
+    reads = [{place for place, factor in enumerate(cell[rule][1]) if factor[0] != 0}
+             for cell, rule in zip(book, choice)]
+    led = [set(row) for row in reads]
+    for _ in book:
+        led = [row.union(*[reads[cell] for cell in row]) for row in led]
+    return led
+
+
+def is_tied(book, choice, lot):
+    """By the words of [2]."""
+    led = leads(book, choice)
+    if not lot or list(lot) != sorted(set(lot)) or not all(other in led[cell] for cell in lot for other in lot):
+        return False
+    rest = [cell for cell in range(len(book)) if cell not in lot]
+    return not any(
+        all(other in led[one] for one in list(lot) + [cell] for other in list(lot) + [cell]) for cell in rest)
+
+
+def is_heavy(book, found):
+    """Whether a tuple of the right form is a heavy lot, by the words of [2]."""
+    choice, lot, bulk = found
+    if len(bulk) != len(lot) or len(choice) != len(book) or not is_tied(book, choice, lot):
+        return False
+    if not all(number(one) > 0 and as_tuple(number(one)) == one for one in bulk):
+        return False
+    rows = sizes(book, choice)
+    return all(
+        sum(rows[cell][other] * number(share) for other, share in zip(lot, bulk)) >= number(own)
+        for cell, own in zip(lot, bulk))
+
+
+def are_weights(book, weights):
+    """Whether a tuple of fractions is weights, by the words of [2]."""
+    if len(weights) != len(book) or not all(number(weight) > 0 for weight in weights):
+        return False
+    return all(
+        sum(abs(number(factor)) * number(weight) for factor, weight in zip(rule[1], weights)) < number(weights[at])
+        for at, cell in enumerate(book) for rule in cell)
+
+
+def make_fraction(chance, most, den):
+    return as_tuple(Fraction(chance.randint(-most, most), chance.randint(1, den)))
+
+
+def make_book(chance, cells, rules, factor, empty=0.4):
+    """A book with random rules, whose factors are 0 or what factor() gives."""
+    return tuple(
+        tuple(
+            (make_fraction(chance, 9, 9), tuple(ZERO if chance.random() < empty else factor() for _ in range(cells)))
+            for _ in range(chance.randint(1, rules)))
+        for _ in range(cells))
+
+
+def make_start(chance, book):
+    return tuple((make_fraction(chance, 9, 5), make_fraction(chance, 9, 5)) for _ in book)
+
+
+def make_row(chance, book, turns, oldest=1):
+    """An aged row that can be done, with ages up to the oldest one."""
+    many = [2] * len(book)
+    row = []
+    for _ in range(turns):
+        cell = chance.randrange(len(book))
+        rule = chance.randrange(len(book[cell]))
+        factors = book[cell][rule][1]
+        ages = tuple(
+            0 if factor[0] == 0 else chance.randint(0, min(oldest, many[at] - 1)) for at, factor in enumerate(factors))
+        row.append((cell, rule, ages))
+        many[cell] += 1
+    return tuple(row)
