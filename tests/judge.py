@@ -81,9 +81,19 @@ def determinant(rows):
 
 
 def shrinks(rows):
-    """Whether rows of numbers from 0 on have a spectral radius below 1: by the minors of 1 less rows."""
+    """Whether rows of numbers from 0 on have a spectral radius below 1.
+
+    They have if 1 less rows has minors above 0 in its corner, that is, if each cell left out in turn, its own
+    part put into the others, leaves something above 0.
+    """
     gaps = [[(1 if at == place else 0) - item for place, item in enumerate(row)] for at, row in enumerate(rows)]
-    return all(determinant([row[:many] for row in gaps[:many]]) > 0 for many in range(1, len(rows) + 1))
+    for at, chosen in enumerate(gaps):
+        if chosen[at] <= 0:
+            return False
+        for row in gaps[at + 1:]:
+            by = row[at] / chosen[at]
+            row[:] = [item - by * other for item, other in zip(row, chosen)]
+    return True
 
 
 def choices(book):
