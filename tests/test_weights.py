@@ -151,6 +151,12 @@ class IsWeightsTest(unittest.TestCase):
         self.assertFalse(is_weights((CONSTANT[0] * 2,), ((-1, 2),)))
         self.assertFalse(is_weights((((ONE, (ZERO, ZERO)),),) * 2, (ONE, ZERO)))
 
+    def test_numbers_below_zero(self):
+        double = (((ZERO, (TWO,)),),)
+        self.assertFalse(is_weights(double, ((-1, 1),)))
+        self.assertFalse(is_weights((((ZERO, (TWO, ZERO)),), ((ZERO, (TWO, ZERO)),)), ((-1, 1), ZERO)))
+        self.assertFalse(is_weights((((ZERO, (TWO, ZERO)),), ((ZERO, (TWO, ZERO)),)), ((-1, 1), ONE)))
+
     def test_of_a_book_without_weights(self):
         for thing in ((ONE, ONE), (TWO, ONE), (ONE, TWO)):
             self.assertFalse(is_weights(TURN, thing))
