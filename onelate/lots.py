@@ -8,10 +8,14 @@ from onelate.systems import kept_values
 
 def ties_of(book, choice):
     """The ascending list of the TIED LOTS of a choice."""
-    reads = [reads_of(cell[rule]) for cell, rule in zip(book, choice)]
-    led = [led_from(reads, cell) for cell in range(len(book))]
+    led = [led_by(book, choice, cell) for cell in range(len(book))]
     lots = [tuple(other for other in led[cell] if cell in led[other]) for cell in range(len(book))]
     return sorted({lot for lot in lots if lot != ()})
+
+
+def led_by(book, choice, cell):
+    """The ascending list of the cells to which a cell leads by a choice."""
+    return led_from([reads_of(of_cell[rule]) for of_cell, rule in zip(book, choice)], cell)
 
 
 def led_from(reads, first):

@@ -37,9 +37,15 @@ def rate_by(book, values):
 
 def refuse_heavy(book):
     """Heavy(found) if the book has a heavy lot."""
+    found = some_heavy(book)
+    if found is not None:
+        raise Heavy(found)
+
+
+def some_heavy(book):
+    """Some HEAVY LOT of a book, of any choice, None if there is none."""
     choice, weights = climbed(book, ones_for(book))
-    if weights is None:
-        raise Heavy(first_heavy(book, choice))
+    return None if weights is not None else first_heavy(book, choice)
 
 
 def ones_for(book):

@@ -1,10 +1,12 @@
 """What the tests judge by, worked out apart from the program, by Python's own fractions."""
 
+import random
 from fractions import Fraction
-from itertools import product
+from itertools import combinations, product
 
 from onelate.course import Course
 from onelate.errors import Wrong
+from onelate.lots import bulk_of
 
 ZERO, ONE, TWO, HALF = (0, 1), (1, 1), (2, 1), (1, 2)
 
@@ -27,6 +29,19 @@ def odd_values():
         (2, 4), (0, 2), (-2, 2), (1,), (1, 2, 3), ("1", "2"), ([1], [2]), ((1, 2), [3, 4]), (None, None),
         course, Wrong, Wrong(0), (course, course), tuple([None] * 3000),
     ]
+
+
+def spoiled(thing):
+    """The thing, each tuple in it with one part exchanged by what stands in no form, or added."""
+    if not isinstance(thing, tuple):
+        return
+    for at, part in enumerate(thing):
+        for other in (None, True, False, [part], {}, "A", deep(3), [1, 2]):
+            yield thing[:at] + (other,) + thing[at + 1:]
+        for other in spoiled(part):
+            yield thing[:at] + (other,) + thing[at + 1:]
+    yield thing + (None,)
+    yield list(thing)
 
 
 def number(fraction):
@@ -125,6 +140,29 @@ def is_tied(book, choice, lot):
         all(other in led[one] for one in list(lot) + [cell] for other in list(lot) + [cell]) for cell in rest)
 
 
+def lots(book):
+    """All lots, tied or not."""
+    return [lot for many in range(len(book)) for lot in combinations(range(len(book)), many + 1)]
+
+
+def tied(book, choice):
+    """The ascending list of the tied lots, by the words of [2]."""
+    return sorted(lot for lot in lots(book) if is_tied(book, choice, lot))
+
+
+def among(book, choice, lot):
+    """The sizes of the chosen rules' factors, as Fractions, of the cells of a lot for these cells."""
+    rows = sizes(book, choice)
+    return [[rows[cell][other] for other in lot] for cell in lot]
+
+
+def heavy_pairs(book):
+    """The ascending list of all tuples (choice, lot) of heavy lots."""
+    return [
+        (choice, lot) for choice in choices(book) for lot in tied(book, choice)
+        if not shrinks(among(book, choice, lot))]
+
+
 def is_heavy(book, found):
     """Whether a tuple of the right form is a heavy lot, by the words of [2]."""
     choice, lot, bulk = found
@@ -145,6 +183,37 @@ def are_weights(book, weights):
     return all(
         sum(abs(number(factor)) * number(weight) for factor, weight in zip(rule[1], weights)) < number(weights[at])
         for at, cell in enumerate(book) for rule in cell)
+
+
+def sides(box):
+    """A box by Fractions."""
+    return [[number(low), number(high)] for low, high in box]
+
+
+def end_in(rule, box, side):
+    """The least, or for side 1 the greatest, by a rule in a box of Fractions, by the words of [2]."""
+    told = number(rule[0])
+    for factor, (low, high) in zip(rule[1], box):
+        ends = [number(factor) * low, number(factor) * high]
+        told += max(ends) if side else min(ends)
+    return told
+
+
+def next_of(book, box):
+    """The next box, by Fractions."""
+    return [
+        [min(end_in(rule, box, 0) for rule in cell), max(end_in(rule, box, 1) for rule in cell)] for cell in book]
+
+
+def as_box(box):
+    """A box of Fractions as a tuple of tuples of fractions."""
+    return tuple((as_tuple(low), as_tuple(high)) for low, high in box)
+
+
+def with_told(book, left):
+    """The book in which each cell has rules more that read nothing and tell these values."""
+    none = (ZERO,) * len(book)
+    return tuple(cell + tuple((value, none) for value in values) for cell, values in zip(book, left))
 
 
 def make_fraction(chance, most, den):
@@ -177,3 +246,62 @@ def make_row(chance, book, turns, oldest=1):
         row.append((cell, rule, ages))
         many[cell] += 1
     return tuple(row)
+
+
+def some_factor(chance, top):
+    return lambda: as_tuple(Fraction(chance.choice((-1, 1)) * chance.randint(1, 60), 60) * top)
+
+
+def some_books(seed, many, most=6):
+    """Random books of at most so many cells, about as many with weights as without."""
+    chance = random.Random(seed)
+    for _ in range(many):
+        cells = chance.randint(1, most)
+        top = Fraction(chance.randint(1, 6), cells) / chance.choice((1, 2))
+        yield chance, make_book(chance, cells, 3, some_factor(chance, top), chance.choice((0.2, 0.6)))
+
+
+def books_with_weights(seed, many, most=6):
+    """Those of such books that have weights."""
+    for chance, book in some_books(seed, many, most):
+        if has_weights(book):
+            yield chance, book
+
+
+def great_book(chance, top, rules=3, empty=0):
+    """A book at the bounds, with six cells, whose factors are at most top."""
+    return tuple(
+        tuple(
+            (make_fraction(chance, 10 ** 6, 10 ** 4),
+             tuple(ZERO if chance.random() < empty else as_tuple(Fraction(chance.randint(-9999, 9999), 9999) * top)
+                   for _ in range(6)))
+            for _ in range(rules))
+        for _ in range(6))
+
+
+def heavy_books(seed, many, most=4):
+    """Random books of at most so many cells with a heavy lot, and one of their heavy lots, any."""
+    for chance, book in some_books(seed, many, most):
+        pairs = heavy_pairs(book)
+        if pairs:
+            choice, lot = chance.choice(pairs)
+            rows = tuple(tuple(as_tuple(size) for size in row) for row in sizes(book, choice))
+            by = Fraction(chance.randint(1, 9), chance.randint(1, 9))
+            bulk = tuple(as_tuple(by * number(share)) for share in bulk_of(rows, lot))
+            assert is_heavy(book, (choice, lot, bulk))
+            yield chance, book, (choice, lot, bulk)
+
+
+def plain(book):
+    return tuple(tuple((ZERO, factors) for _, factors in cell) for cell in book)
+
+
+def as_ages(book, row):
+    """A row as an aged row."""
+    return tuple((cell, rule, tuple(int(other in late) for other in range(len(book)))) for cell, rule, late in row)
+
+
+def plain_values(book, start, row):
+    """All values of each cell, as Fractions, if the plain book is gone by a row."""
+    _, values, _ = gone(plain(book), start, as_ages(book, row))
+    return [numbers(of_cell) for of_cell in values]

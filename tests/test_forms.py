@@ -4,7 +4,7 @@ import copy
 import unittest
 
 from onelate import forms
-from tests.judge import HALF, ONE, ZERO, deep, odd_values
+from tests.judge import HALF, ONE, ZERO, odd_values, spoiled
 
 READS = (ONE, (HALF, (-1, 3), ZERO))
 CONSTANT = (HALF, (ZERO, ZERO, ZERO))
@@ -89,19 +89,6 @@ def ask(name, thing):
     if name == "is_rule":
         return forms.is_rule(3, thing)
     return getattr(forms, name)(*[BOOK] * FORMS[name], thing)
-
-
-def spoiled(thing):
-    """The thing, each tuple in it with one part exchanged by what stands in no form, or added."""
-    if not isinstance(thing, tuple):
-        return
-    for at, part in enumerate(thing):
-        for other in (None, True, False, [part], {}, "A", deep(3), [1, 2]):
-            yield thing[:at] + (other,) + thing[at + 1:]
-        for other in spoiled(part):
-            yield thing[:at] + (other,) + thing[at + 1:]
-    yield thing + (None,)
-    yield list(thing)
 
 
 class FormsTest(unittest.TestCase):

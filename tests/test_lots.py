@@ -3,16 +3,10 @@
 import random
 import unittest
 from fractions import Fraction
-from itertools import combinations
 
 from onelate.lots import bulk_of, first_heavy, ties_of
 from tests.judge import (
-    HALF, ONE, TWO, ZERO, as_tuple, choices, is_heavy, is_tied, make_book, make_fraction, shrinks, sizes)
-
-
-def lots(book):
-    cells = range(len(book))
-    return sorted(lot for many in cells for lot in combinations(cells, many + 1))
+    HALF, ONE, TWO, ZERO, among, as_tuple, choices, is_heavy, make_book, make_fraction, shrinks, sizes, tied)
 
 
 def wide(chance):
@@ -33,8 +27,7 @@ class LotsTest(unittest.TestCase):
         for _ in range(150):
             book = make_book(chance, chance.randint(1, 6), 2, lambda: wide(chance), 0.75)
             for choice in choices(book)[:4]:
-                tied = [lot for lot in lots(book) if is_tied(book, choice, lot)]
-                self.assertEqual(ties_of(book, choice), tied, (book, choice))
+                self.assertEqual(ties_of(book, choice), tied(book, choice), (book, choice))
 
     def test_bulks_by_the_words(self):
         chance = random.Random(5)
@@ -47,8 +40,7 @@ class LotsTest(unittest.TestCase):
             choice = (0,) * len(book)
             for lot in ties_of(book, choice):
                 bulk = bulk_of(tuple(tuple(as_tuple(one) for one in row) for row in sizes(book, choice)), lot)
-                among = [[row[other] for other in lot] for row in (sizes(book, choice)[cell] for cell in lot)]
-                self.assertEqual(bulk is None, shrinks(among), book)
+                self.assertEqual(bulk is None, shrinks(among(book, choice, lot)), book)
                 seen[bulk is None] += 1
                 if bulk is not None:
                     self.assertTrue(is_heavy(book, (choice, lot, bulk)), book)

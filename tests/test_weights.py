@@ -9,8 +9,8 @@ from onelate.choices import burdens_by
 from onelate.errors import Heavy
 from onelate.weights import is_weights, rate_by, weights_for, weights_of
 from tests.judge import (
-    HALF, ONE, TWO, ZERO, are_weights, as_tuple, choices, has_weights, is_heavy, make_book, make_fraction, number,
-    numbers, odd_values)
+    HALF, ONE, TWO, ZERO, are_weights, as_tuple, choices, great_book, has_weights, is_heavy, number, numbers,
+    odd_values, some_books)
 
 RING = (((ZERO, (ZERO, TWO)),), ((ONE, ((1, 4), ZERO)), (ZERO, ((-1, 3), ZERO))))
 TURN = (((ZERO, ((-1, 1), ZERO)),), ((ZERO, (HALF, ZERO)),))
@@ -23,19 +23,6 @@ def ring(factors):
     return tuple(
         ((ZERO, tuple(factor if other == (at + 1) % many else ZERO for other in range(many))),)
         for at, factor in enumerate(factors))
-
-
-def some_factor(chance, top):
-    return lambda: as_tuple(Fraction(chance.choice((-1, 1)) * chance.randint(1, 60), 60) * top)
-
-
-def some_books(seed, many):
-    """Random books, about as many with weights as without."""
-    chance = random.Random(seed)
-    for _ in range(many):
-        cells = chance.randint(1, 6)
-        top = Fraction(chance.randint(1, 6), cells) / chance.choice((1, 2))
-        yield chance, make_book(chance, cells, 3, some_factor(chance, top), chance.choice((0.2, 0.6)))
 
 
 class WeightsTest(unittest.TestCase):
@@ -109,12 +96,7 @@ class WeightsTest(unittest.TestCase):
         for seed in range(12):
             chance = random.Random(seed)
             for rules, top in ((3, Fraction(1, 6)), (3, Fraction(2, 5)), (6, Fraction(1, 5))):
-                book = tuple(
-                    tuple(
-                        (make_fraction(chance, 10 ** 6, 10 ** 4),
-                         tuple(as_tuple(Fraction(chance.randint(-9999, 9999), 9999) * top) for _ in range(6)))
-                        for _ in range(rules))
-                    for _ in range(6))
+                book = great_book(chance, top, rules)
                 weights = weights_of(book)
                 if weights is None:
                     self.found(book)
