@@ -1,4 +1,4 @@
-"""The examples of the document, line by line, as far as what they speak of is there."""
+"""The examples of the document, line by line."""
 
 import doctest
 import unittest
@@ -43,6 +43,7 @@ STAGE_2 = r"""
 
 STAGE_3 = r"""
 >>> from onelate.choices import best_choice, burdens_by, sizes_of
+>>> from onelate.heavylots import can_be_heavy, heavy_lot, is_heavy_lot, tied_lots
 >>> from onelate.systems import solution_of, still_row
 >>> from onelate.weights import is_weights, rate_by, weights_for, weights_of
 >>> zero, one, two, half = (0, 1), (1, 1), (2, 1), (1, 2)
@@ -53,13 +54,93 @@ STAGE_3 = r"""
 >>> ring = (((zero, (zero, two)),), ((one, ((1, 4), zero)), (zero, ((-1, 3), zero))))
 >>> [burdens_by(ring, (one, one)), best_choice(ring, (one, one)), sizes_of(ring, (0, 1))]
 [((2, 1), (1, 3)), (0, 1), (((0, 1), (2, 1)), ((1, 3), (0, 1)))]
->>> [is_weights(ring, ((5, 2), one)), is_weights(ring, (two, one)), weights_for(ring, (zero, one))]
-[True, False, ((6, 1), (3, 1))]
->>> [rate_by(ring, ((5, 2), one))]
-[(5, 6)]
+>>> [is_weights(ring, ((5, 2), one)), is_weights(ring, (two, one)), weights_for(ring, (zero, one)), heavy_lot(ring)]
+[True, False, ((6, 1), (3, 1)), None]
+>>> [rate_by(ring, ((5, 2), one)), tied_lots(ring, (0, 1)), can_be_heavy(ring, (0, 1), (0, 1))]
+[(5, 6), [(0, 1)], False]
 >>> turn = (((zero, ((-1, 1), zero)),), ((zero, (half, zero)),))
->>> [weights_of(turn)]
-[None]
+>>> [weights_of(turn), heavy_lot(turn)[:2], is_heavy_lot(turn, ((0, 0), (0,), ((7, 2),)))]
+[None, ((0, 0), (0,)), True]
+"""
+
+STAGE_4 = r"""
+>>> from onelate.apart import apart_round, apart_start, is_apart_paper
+>>> from onelate.cells import apart_cells, leading_steps, together_weights
+>>> from onelate.far import far_round
+>>> from onelate.fewest import fewest_late, late_reads_of
+>>> zero, less, half = (0, 1), (-3, 5), (1, 2)
+>>> book = (((zero, (zero, less, less)),), ((zero, (less, zero, less)),), ((zero, (less, less, zero)),))
+>>> found = ((0, 0, 0), (0, 1, 2), ((1, 1), (1, 1), (1, 1)))
+>>> apart_round(book, found, (0, 1, 2), (1, 1, 1))
+((0, 0, ()), (1, 0, (0,)), (2, 0, (0, 1)))
+>>> start = apart_start(book, found, (1, 1, 1))
+>>> [start[0], is_apart_paper(book, (found, start, apart_round(book, found, (0, 1, 2), (1, 1, 1))))]
+[((1, 1), (-1, 1)), True]
+>>> [late_reads_of(book, found, (2, 0, 1), (1, -1, 1)), fewest_late(book, found)]
+[3, (3, (0, 1, 2), (-1, -1, -1))]
+>>> two = (((zero, ((-1, 1), zero, zero)),), ((zero, (half, half, zero)),), ((zero, (zero, zero, half)),))
+>>> [apart_cells(two), leading_steps(two, 1)[1], together_weights(two)[:2]]
+[(0, 1), ((1, 0, 0),), (None, None)]
+>>> far_round(two, 1, (((0, 0, 0), (0,), ((3, 1),)), ((1, 0, 0),)))[1:]
+(((0, 0, ()), (1, 0, ()), (2, 0, ()), (1, 0, ()), (1, 0, (0, 1))), (3, 1))
+"""
+
+STAGE_5 = r"""
+>>> from onelate.boxes import box_of, end_of, high_by, is_own_box, lies_in, next_box
+>>> from onelate.nearing import misses, nearing_round, rounds_for
+>>> cell = (((0, 1), ((1, 2),)), ((1, 1), ((-1, 2),)))
+>>> book = (cell,)
+>>> [box_of(book), end_of(book), end_of((cell[:1],)), high_by(cell[1], (((0, 1), (1, 1)),))]
+[(((0, 1), (1, 1)),), None, ((0, 1),), (1, 1)]
+>>> [next_box(book, (((-1, 1), (2, 1)),)), lies_in(box_of(book), (((-1, 1), (1, 1)),)), is_own_box(book, [((0, 1), (1, 1))])]
+[(((-1, 2), (3, 2)),), True, False]
+>>> nearing_round(book)
+((0, 1, ()), (0, 0, (0,)))
+>>> start = (((1, 2), (1, 2)),)
+>>> [misses(book, start, 0), misses(book, start, 1), rounds_for(book, start, (1, 10))]
+[(((1, 2), (1, 2)),), (((1, 4), (1, 4)),), 3]
+>>> pair = ((((2, 1), ((0, 1), (-1, 3))),), (((0, 1), ((1, 2), (0, 1))),))
+>>> [end_of(pair), nearing_round(pair)]
+[((12, 7), (6, 7)), ((0, 0, ()), (0, 0, (1,)), (1, 0, (0,)), (1, 0, ()))]
+"""
+
+STAGE_6 = r"""
+>>> from onelate.bounds import ends_in, error_box, greatest_error
+>>> from onelate.ever import come_to, ever_box
+>>> from onelate.leaving import leaving_row, near_row
+>>> book = ((((0, 1), ((1, 2),)), ((1, 1), ((-1, 2),))),)
+>>> [ends_in(book, (((0, 1), (1, 1)),)), error_box(book, ((1, 4),)), greatest_error(book, (((-1, 1), (2, 1)),))]
+[True, (((-1, 2), (3, 2)),), (1, 2)]
+>>> start, other = (((1, 2), (1, 2)),), (((0, 1), (3, 1)),)
+>>> [ever_box(book, start), ever_box(book, other)]
+[(((0, 1), (1, 1)),), (((-1, 2), (3, 1)),)]
+>>> [come_to(book, start, 0, 1), come_to(book, other, 0, 0), come_to(book, other, 0, 1)]
+[None, ((0, 1, (1,)),), ()]
+>>> near_row(book, start, 0, 1, (1, 10))
+((0, 1, (0,)), (0, 0, (1,)), (0, 1, (0,)), (0, 0, (1,)), (0, 1, (0,)))
+>>> [near_row(book, start, 0, 0, (1, 2)), leaving_row(book, start, (((0, 1), (9, 10)),)) == near_row(book, start, 0, 1, (1, 10))]
+[(), True]
+>>> [leaving_row(book, start, (((0, 1), (1, 1)),)), leaving_row(book, other, (((0, 1), (3, 1)),))]
+[None, ((0, 1, (1,)),)]
+"""
+
+STAGE_7 = r"""
+>>> from onelate.paces import is_pace_side, pace_side, stage_bound, stages_for
+>>> from onelate.stagerows import stage_distances, stage_row, stage_starts
+>>> from onelate.stillfar import left_behind, still_box, still_far
+>>> zero, one, half = (0, 1), (1, 1), (1, 2)
+>>> book = (((one, ((-1, 2),)),),)
+>>> [pace_side(book, half)[0], pace_side(book, (2, 3))[0], is_pace_side(book, (2, 3), ("weights", (one,)))]
+['heavy', 'weights', True]
+>>> found = ((0,), (0,), (one,))
+>>> stage_starts(book, found)
+((((0, 1), (0, 1)),), (((-1, 1), (1, 1)),))
+>>> [stage_row(book, found, 2), stage_distances(book, found, 2)]
+[((0, 0, (0,)), (0, 0, (2,)), (0, 0, (0,)), (0, 0, (2,))), [{0: (1, 1)}, {0: (1, 2)}, {0: (1, 4)}]]
+>>> [stage_bound((one,), (2, 3), (((3, 1), one),), 2), stages_for((one,), half, (((3, 1), one),), (1, 2))]
+[((4, 3),), 3]
+>>> [left_behind(book, ((zero, one),), ((0, 0, (0,)),), 1), still_box(book, ((one, zero),)), still_far(book, ((one,),), ((2, 3),))]
+[(((1, 1), (0, 1)),), (((0, 1), (1, 1)),), ((1, 3),)]
 """
 
 
@@ -76,5 +157,17 @@ class ExamplesTest(unittest.TestCase):
     def test_stage_2(self):
         self.go(STAGE_2, 14)
 
-    def test_stage_3_as_far_as_weights(self):
-        self.go(STAGE_3, 12)
+    def test_stage_3(self):
+        self.go(STAGE_3, 13)
+
+    def test_stage_4(self):
+        self.go(STAGE_4, 14)
+
+    def test_stage_5(self):
+        self.go(STAGE_5, 11)
+
+    def test_stage_6(self):
+        self.go(STAGE_6, 11)
+
+    def test_stage_7(self):
+        self.go(STAGE_7, 11)
