@@ -305,3 +305,113 @@ def plain_values(book, start, row):
     """All values of each cell, as Fractions, if the plain book is gone by a row."""
     _, values, _ = gone(plain(book), start, as_ages(book, row))
     return [numbers(of_cell) for of_cell in values]
+
+
+def make_part(chance, cells, rules, inputs, shown=None, top=Fraction(1, 2), empty=0.3):
+    """A part with random rules; factors for cells are at most top, those for inputs up to 2."""
+    inner, outer = some_factor(chance, Fraction(top) / cells), some_factor(chance, 2)
+    if shown is None:
+        shown = tuple(cell for cell in range(cells) if chance.random() < 0.6)
+    return (inputs, tuple(
+        tuple(
+            (make_fraction(chance, 9, 9), tuple(
+                ZERO if chance.random() < empty else (inner if at < cells else outer)()
+                for at in range(cells + inputs)))
+            for _ in range(chance.randint(1, rules)))
+        for _ in range(cells)), shown)
+
+
+def inner(part):
+    """The book of a part's cells, by the words of [36]."""
+    _, cells, _ = part
+    return tuple(tuple((told, tuple(factors[at] for at in range(len(cells)))) for told, factors in cell)
+                 for cell in cells)
+
+
+def light_parts(seed, many, cells=3, rules=3, inputs=3):
+    """Random parts whose inner book has weights."""
+    chance = random.Random(seed)
+    made = 0
+    while made < many:
+        top = chance.choice((Fraction(1, 2), Fraction(9, 10), 2))
+        part = make_part(chance, chance.randint(1, cells), rules, chance.randint(0, inputs), None, top)
+        if has_weights(inner(part)):
+            made += 1
+            yield chance, part
+
+
+def solved(rows, goals):
+    """The answers, by Fractions, of rows of numbers and goals, by sweeping; the rows have just one."""
+    rows = [list(row) + list(goal) for row, goal in zip(rows, goals)]
+    for at in range(len(rows)):
+        top = next(place for place in range(at, len(rows)) if rows[place][at] != 0)
+        rows[at], rows[top] = rows[top], rows[at]
+        rows[at] = [item / rows[at][at] for item in rows[at]]
+        for place, row in enumerate(rows):
+            if place != at:
+                rows[place] = [item - row[at] * other for item, other in zip(row, rows[at])]
+    return [row[len(rows):] for row in rows]
+
+
+def pieces_by(part, choice):
+    """For each cell its piece by a choice, by Fractions."""
+    inputs, cells, _ = part
+    many = len(cells)
+    sized = [[abs(number(factor)) for factor in cell[rule][1]] for cell, rule in zip(cells, choice)]
+    gaps = [[(at == place) - row[place] for place in range(many)] for at, row in enumerate(sized)]
+    return [tuple(row) for row in solved(gaps, [row[many:] for row in sized])]
+
+
+def all_pieces(part, cell):
+    """The ascending list of the different pieces of a cell, by all choices."""
+    return sorted({tuple(as_tuple(item) for item in pieces_by(part, choice)[cell]) for choice in choices(part[1])})
+
+
+def summed(piece, distances):
+    """The sum of item times distance, as a Fraction."""
+    return sum((number(item) * number(distance) for item, distance in zip(piece, distances)), Fraction(0))
+
+
+def is_mixed(piece, pieces, shares):
+    """Whether shares show that a piece is at most a mixture of pieces, by the words of [38]."""
+    return (
+        isinstance(shares, tuple) and len(shares) == len(pieces) and sum(numbers(shares)) == 1
+        and all(number(share) >= 0 and as_tuple(number(share)) == share for share in shares)
+        and all(
+            number(item) <= sum(number(share) * number(one[at]) for share, one in zip(shares, pieces))
+            for at, item in enumerate(piece)))
+
+
+def is_parted(piece, pieces, distances):
+    """Whether distances show that it is not."""
+    return (
+        isinstance(distances, tuple) and len(distances) == len(piece)
+        and all(number(one) >= 0 and as_tuple(number(one)) == one for one in distances)
+        and all(summed(piece, distances) > summed(one, distances) for one in pieces))
+
+
+def whole_of(part, around):
+    """The whole book of a part and its surroundings, by the words at the top of Stage 8."""
+    many, others = len(part[1]), len(around[1])
+    whole = []
+    for cells, other, first, own in ((part, around, 0, many), (around, part, many, others)):
+        for cell in cells[1]:
+            rules = []
+            for told, factors in cell:
+                row = [ZERO] * (many + others)
+                for at, factor in enumerate(factors):
+                    if at < own:
+                        row[first + at] = factor
+                    else:
+                        row[(many - first) + other[2][at - own]] = factor
+                rules.append((told, tuple(row)))
+            whole.append(tuple(rules))
+    return tuple(whole)
+
+
+def make_surroundings(chance, part, cells=3, top=1):
+    """Random surroundings of a part."""
+    shown = part[0]
+    cells = max(chance.randint(1, cells), shown)
+    around = make_part(chance, cells, 2, len(part[2]), None, top)
+    return around[:2] + (tuple(sorted(chance.sample(range(cells), shown))),)
