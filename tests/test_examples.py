@@ -143,6 +143,98 @@ STAGE_7 = r"""
 [(((1, 1), (0, 1)),), (((0, 1), (1, 1)),), ((1, 3),)]
 """
 
+STAGE_8 = r"""
+>>> from onelate.flat import flat_part, form_of
+>>> from onelate.parts import inner_book, joined_part, parted, whole_book
+>>> from onelate.pieces import least_pieces, parting_distances, pieces_of, shares_of
+>>> from onelate.reaches import reach_of
+>>> zero, half, one = (0, 1), (1, 2), (1, 1)
+>>> first = ((zero, (zero, half, (1, 4))),)
+>>> second = ((one, (half, zero, half)), (zero, (zero, zero, (-1, 1))))
+>>> part = (1, (first, second), (0,))
+>>> [reach_of(part, ((4, 1),)), pieces_of(part, 0), least_pieces(part, 0)]
+[((3, 1), (4, 1)), [((2, 3),), ((3, 4),)], [((3, 4),)]]
+>>> flat_part(part)
+(1, ((((0, 1), ((0, 1), (3, 4))),),), (0,))
+>>> shares_of((half, half), [(one, zero), (zero, one)])
+((1, 2), (1, 2))
+>>> parting_distances((half, half), [(one, zero), (zero, one)]) is None
+True
+>>> around = (1, (((zero, (zero, one)),),), (0,))
+>>> book = whole_book(part, around)
+>>> [len(book), book[0][0], parted(book, (0, 1)) == (part, around)]
+[3, ((0, 1), ((0, 1), (1, 2), (1, 4))), True]
+>>> form_of(joined_part(1, part, (0,), part, (1,)))
+((((3, 4),),), (((9, 16),),))
+"""
+
+STAGE_9 = r"""
+>>> from onelate.around import is_parting, parting_surroundings
+>>> from onelate.needless import needless_rules, spare_part
+>>> from onelate.stands import are_alike, stands_for, why_not
+>>> zero, half, one = (0, 1), (1, 2), (1, 1)
+>>> both = (2, (((zero, (zero, half, half)),),), (0,))
+>>> either = (2, (((zero, (zero, one, zero)), (zero, (zero, zero, (-1, 1)))),), (0,))
+>>> [stands_for(both, either), stands_for(either, both), why_not(both, either)]
+[True, False, None]
+>>> [are_alike(both, either), why_not(either, both)[:3]]
+[False, ('piece', 0, ((0, 1), (1, 1)))]
+>>> is_parting(either, both, parting_surroundings(either, both))
+True
+>>> more = (2, (either[1][0] + both[1][0],), (0,))
+>>> [needless_rules(more), spare_part(more) == either]
+[((0, 2),), True]
+"""
+
+STAGE_10 = r"""
+>>> from onelate.even import energy, low_values, scales_of, squares_of
+>>> from onelate.latealone import calm_prompt, late_alone
+>>> from onelate.signs import is_minus_ring, signs_of
+>>> f, none = (-3, 5), (0, 1)
+>>> book = (((none, (none, f, f)),), ((none, (f, none, f)),), ((none, (f, f, none)),))
+>>> [signs_of(book), scales_of(book), energy(book, ((1, 1), (-1, 1), none))]
+[None, ((1, 1), (1, 1), (1, 1)), (4, 5)]
+>>> squares_of(book)
+(((1, 1), ((3, 5), (3, 5))), ((16, 25), ((3, 8),)), ((11, 20), ()))
+>>> [is_minus_ring(book, ((0, 0, 1), (1, 0, 2), (0, 0, 2))), is_minus_ring(book, ((0, 0, 1), (1, 0, 0)))]
+[True, False]
+>>> [calm_prompt(book), late_alone(book)[0] == squares_of(book), late_alone(book)[1][:2]]
+[True, True, ((0, 0, 0), (0, 1, 2))]
+>>> pair = (((none, (none, (-2, 1))),), ((none, ((-1, 8), none)),))
+>>> [signs_of(pair), scales_of(pair), calm_prompt(pair), late_alone(pair)]
+[(1, -1), ((1, 1), (16, 1)), True, None]
+"""
+
+STAGE_11 = r"""
+>>> from onelate.damping import damped_book, damping_of, is_stiff_lot, stiff_lot
+>>> from onelate.mends import heals, heavy_without, least_bars, least_holds, least_reads
+>>> zero, one, two, half = (0, 1), (1, 1), (2, 1), (1, 2)
+>>> book = (((zero, (zero, two)), (zero, (half, zero))), ((one, (one, zero)),))
+>>> [least_reads(book, 2), least_bars(book, 1), least_holds(book, 3)]
+[[((0, 1),), ((1, 0),)], [((0, 0),)], [(0,), (1,)]]
+>>> [heals(book, "holds", (1,)), heavy_without(book, "reads", ((0, 0),))[:2], least_reads((((one, (half,)),),), 3)]
+[True, ((0, 0), (0, 1)), [()]]
+>>> back = (((one, ((-3, 1),)),),)
+>>> [damped_book(back, half), stiff_lot(back), damping_of(back) is None]
+[((((1, 2), ((-1, 1),)),),), None, False]
+>>> [is_stiff_lot((((zero, (one,)),),), ((0,), (0,), (two,))), damping_of((((zero, (two,)),),)), is_stiff_lot(back, ((0,), (0,), (one,)))]
+[True, None, False]
+"""
+
+STAGE_12 = r"""
+>>> from onelate.desk import Desk
+>>> from onelate.works import Works
+>>> half, two = (((0, 1), ((1, 2),)),), (((0, 1), ((2, 1),)),)
+>>> works = Works()
+>>> [works.put_book("a", (half,)), works.add_duty(("pace", "a", (2, 3))), works.names(), works.duties()]
+[None, None, {'a': 'book'}, [('pace', 'a', (2, 3))]]
+>>> [works.drop_duty(0), works.put_book("a", (two,)), works.back(), works.called("a") == (half,)]
+[('pace', 'a', (2, 3)), None, None, True]
+>>> desk = Desk("cell a\nrule 1 + 1/2 a")
+>>> [desk.execute(line) for line in ["keep together", "rule a 1 a", "rule a - 1/2 a", "ends", "bar a 0", "undo", "duties"]]
+[['done'], ['refused'], ['done'], ['a -1 2'], ['done'], ['done'], ['keep together']]
+"""
+
 
 class ExamplesTest(unittest.TestCase):
     def go(self, text, many):
@@ -171,3 +263,18 @@ class ExamplesTest(unittest.TestCase):
 
     def test_stage_7(self):
         self.go(STAGE_7, 11)
+
+    def test_stage_8(self):
+        self.go(STAGE_8, 16)
+
+    def test_stage_9(self):
+        self.go(STAGE_9, 11)
+
+    def test_stage_10(self):
+        self.go(STAGE_10, 11)
+
+    def test_stage_11(self):
+        self.go(STAGE_11, 9)
+
+    def test_stage_12(self):
+        self.go(STAGE_12, 8)

@@ -41,6 +41,21 @@ FUNCTIONS = {
               "stage_bound weights t distances stage", "stages_for weights t distances nearness"],
     "stagerows": ["stage_starts book found", "stage_row book found stages", "stage_distances book found stages"],
     "stillfar": ["left_behind book start row age", "still_box book left", "still_far book left goal"],
+    "parts": ["is_part thing", "is_surroundings part thing", "inner_book part", "whole_book part around",
+              "parted book lot", "joined_part inputs one feeds other others"],
+    "reaches": ["reach_of part distances"],
+    "pieces": ["pieces_of part cell", "least_pieces part cell", "shares_of piece pieces",
+               "parting_distances piece pieces"],
+    "flat": ["form_of part", "flat_part part"],
+    "stands": ["stands_for one other", "are_alike one other", "why_not one other"],
+    "around": ["parting_surroundings one other", "is_parting one other thing"],
+    "needless": ["needless_rules part", "spare_part part"],
+    "signs": ["signs_of book", "minus_ring book", "is_minus_ring book thing"],
+    "even": ["scales_of book", "squares_of book", "low_values book", "energy book values"],
+    "latealone": ["calm_prompt book", "late_alone book"],
+    "mends": ["least_reads book most", "least_bars book most", "least_holds book most", "heals book word lot",
+              "heavy_without book word lot"],
+    "damping": ["damped_book book q", "damping_of book", "stiff_lot book", "is_stiff_lot book thing"],
 }
 CLASSES = {
     "errors": {"LateError": {}, "Wrong": {"__init__": "place"}, "NoQuotient": {}, "NoRule": {"__init__": "cell"},
@@ -51,6 +66,10 @@ CLASSES = {
     "course": {"Course": {
         "__init__": "book start", "turn": "cell rule late", "aged": "cell rule ages", "again": "", "newest": "",
         "pairs": "", "back": "", "values_of": "cell", "log": "", "stage_of": "cell age", "twin": ""}},
+    "works": {"Works": {
+        "__init__": "", "put_book": "name book", "put_part": "name part", "drop": "name", "add_duty": "duty",
+        "back": "", "again": "", "drop_duty": "index", "names": "", "called": "name", "duties": "", "twin": ""}},
+    "desk": {"Desk": {"__init__": "text", "execute": "line", "works": ""}},
 }
 
 
