@@ -82,7 +82,7 @@ def is_stiff_lot(book, thing):
     if not all(is_fraction(share) and share[0] > 0 for share in bulk):
         return False
     rows = [rules[rule][1] for rules, rule in zip(book, choice)]
-    if len(lot) > 1 and not are_leading(rows, lot):
+    if not are_leading(rows, lot):
         return False
     bulks = dict(zip(lot, bulk))
     return all(compare(pull_in(rows[cell], cell, bulks), bulks[cell]) >= 0 for cell in lot)

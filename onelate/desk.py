@@ -102,7 +102,7 @@ def duty_of(words):
     if len(words) != 2 or words[0] != "pace":
         return None
     pace = number_of(words[1])
-    return None if pace is None or not is_pace(pace) else ("pace", BOOK, pace)
+    return ("pace", BOOK, pace) if is_pace(pace) else None
 
 
 def index_of(word, many):

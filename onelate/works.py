@@ -140,7 +140,7 @@ def is_duty(thing):
     """Whether any value is a DUTY by form."""
     if not isinstance(thing, tuple) or not 2 <= len(thing) <= 3:
         return False
-    if not isinstance(thing[0], str) or not is_name(thing[1]):
+    if not is_name(thing[1]):
         return False
     if len(thing) == 2:
         return thing[0] == "together"

@@ -252,6 +252,8 @@ class WordsTest(DeskTest):
         self.no_command("bar a 2", "bar a -1", "bar a 00", "bar a 01", "bar a 1/1", "bar b 1", "bar a " + "0" * 2,
                         "bar a " + "1" * 40, "bar a " + "1" * 41, "free 0", "free -1")
         self.ask("keep together", DONE)
+        self.no_command("drop 0", "undo 0", "duties 0", "keep 0", "bar 0", "drop a 0", "cell a 0", "keep a 0", "free a 0")
+        self.no_command("keep within 1", "keep place 1/2", "keep together 1", "pace 1", "free pace 1")
         self.no_command("free 1", "free 00", "free -0", "free 0 0", "free +0", "free 0/1")
         self.ask("free 0", DONE)
         self.no_command("free 0")

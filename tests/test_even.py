@@ -180,6 +180,13 @@ class SquaresTest(unittest.TestCase):
         self.assertIs(self.judged(three, chance), False)
         self.assertEqual(energy(three, low_values(three)), ZERO)
 
+    def test_0_in_the_middle(self):
+        """The second part is 0, and the third cell reads it or not."""
+        for factor in (ZERO, HALF, MINUS):
+            book = (((ONE, (ZERO, ONE, ZERO)),), ((ONE, (ONE, ZERO, factor)),), ((ONE, (ZERO, factor, ZERO)),))
+            self.assertIs(self.judged(book, random.Random(0)), False)
+            self.assertEqual(low_values(book)[2], ZERO)
+
     def test_low_in_the_middle(self):
         """The first two cells are low already; those behind have 0."""
         book = (((ONE, (ZERO, TWO, HALF)),), ((ONE, (TWO, ZERO, ZERO)),), ((ONE, (HALF, ZERO, ZERO)),))

@@ -221,6 +221,13 @@ class BrokenTest(WorksTest):
             else:
                 self.broken(duty, works.add_duty, duty)
 
+    def test_within_a_point(self):
+        """Low and high may be the same."""
+        self.works.put_book("a", CALM)
+        self.done(self.works.add_duty, ("within", "a", ((ZERO, ZERO),)))
+        self.broken(("within", "a", ((HALF, HALF),)), self.works.add_duty, ("within", "a", ((HALF, HALF),)))
+        self.broken(("within", "a", ((ZERO, ZERO),)), self.works.put_book, "a", (((ONE, (HALF,)),),))
+
     def test_within_of_a_book_with_a_heavy_lot(self):
         """It has one own box, from 0 to 0, and no weights."""
         self.works.put_book("a", WILD)
